@@ -1,0 +1,1 @@
+"""Gatewright: gates of who may do what, worked out whole."""
