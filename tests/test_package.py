@@ -11,6 +11,9 @@ LISTED = {
                   "NoName", "Ring", "NoVersion", "InUse"],
     "sets.py": ["need_set", "set_of", "joined", "cut", "less", "turned", "has", "size", "least", "parts"],
     "fields.py": ["field_of", "Field"],
+    "atoms.py": ["atom_of", "Atom", "condition_set"],
+    "folk.py": ["Folk"],
+    "house.py": ["house_of", "House"],
 }
 
 
