@@ -14,6 +14,10 @@ LISTED = {
     "atoms.py": ["atom_of", "Atom", "condition_set"],
     "folk.py": ["Folk"],
     "house.py": ["house_of", "House"],
+    "reading.py": ["read", "gate_read"],
+    "showing.py": ["shown", "gate_shown"],
+    "walking.py": ["asked", "answered", "flat"],
+    "tables.py": ["Table", "made"],
 }
 
 
