@@ -87,12 +87,35 @@ def gate_by_chance(chance, name, fields, groups, ahead, most=8):
     return (name, chance.choice(("first", "refusals", "narrow")), tuple(rules))
 
 
+def great_field_by_chance(chance, name):
+    """A field of very many values, or of a few."""
+    kind = chance.choice(KINDS + ("number", "bits"))
+    if kind == "number":
+        return (name, kind, chance.choice((10 ** 12, 10 ** 12 - 1, 2 ** 32)))
+    if kind == "bits":
+        return (name, kind, chance.choice((32, 31, 17)))
+    return field_by_chance(chance, name, kind)
+
+
+def gates_by_chance(chance, fields, groups, many, rules):
+    """1 to so many gates, which pass to those ahead of them."""
+    gates = []
+    for name in ("door", "gate", "lock", "yard", "pass")[:chance.randint(1, many)]:
+        gates.append(gate_by_chance(chance, name, fields, groups, [gate[0] for gate in gates], rules))
+    return tuple(gates)
+
+
 def house_by_chance(chance, kinds=KINDS[:5], many=3, wide=2, rules=4):
     """A house of 1 to so many fields, told as a tuple."""
     names = chance.sample(NAMES, chance.randint(1, many))
     fields = tuple(field_by_chance(chance, name, chance.choice(kinds), wide) for name in names)
     groups = groups_by_chance(chance, fields, 9)
-    gates = []
-    for name in ("door", "gate", "lock", "yard", "pass")[:chance.randint(1, 5)]:
-        gates.append(gate_by_chance(chance, name, fields, groups, [gate[0] for gate in gates], rules))
-    return (fields, groups, tuple(gates))
+    return (fields, groups, gates_by_chance(chance, fields, groups, 5, rules))
+
+
+def great_house_by_chance(chance, many=2, rules=3):
+    """A house of 1 to so many great fields, told as a tuple; few conditions, so that its borders can be looked through."""
+    names = chance.sample(NAMES, chance.randint(1, many))
+    fields = tuple(great_field_by_chance(chance, name) for name in names)
+    groups = groups_by_chance(chance, fields, 9)
+    return (fields, groups, gates_by_chance(chance, fields, groups, 3, rules))

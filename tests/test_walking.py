@@ -8,7 +8,7 @@ from gatewright.reading import read
 from gatewright.sets import need_set
 from gatewright.walking import answered, asked, flat
 from tests.chances import KINDS, house_by_chance
-from tests.looks import askings_of, condition_holds, in_box, rule_holds, values_of
+from tests.looks import Looked, askings_of, in_box, numbers_in
 from tests.odd import Thorny, odd_lists, odd_numbers, odd_things
 
 HIGH = 10 ** 12
@@ -20,62 +20,6 @@ group who crew cy ann
 
 def house_with(text):
     return read(FIELDS + text)
-
-
-class Looked:
-    """A house looked at asking by asking."""
-
-    def __init__(self, plain):
-        self.plain = plain
-        self.askings = askings_of(plain)
-        self.rules = {gate[0]: gate[2] for gate in plain[2]}
-        self.orders = {gate[0]: gate[1] for gate in plain[2]}
-        self.held = {name: [{asking for asking in self.askings if rule_holds(plain, rule, asking)} for rule in rules]
-                     for name, rules in self.rules.items()}
-
-    def asked(self, name):
-        rules, many = self.rules[name], [len(held) for held in self.held[name]]
-        keys = {"first": lambda at: (at,), "refusals": lambda at: (rules[at][0] != "refuse", at),
-                "narrow": lambda at: (many[at], at)}
-        return sorted(range(len(rules)), key=keys[self.orders[name]])
-
-    def answered(self, name, asking):
-        for place in self.asked(name):
-            if asking in self.held[name][place]:
-                word, target, _ = self.rules[name][place]
-                if word != "pass":
-                    return (word, ((name, place),))
-                told, way = self.answered(target, asking)
-                if told is not None:
-                    return (told, ((name, place),) + way)
-        return (None, None)
-
-    def flat(self, name):
-        """The ways and words of the flat list, with the rules on the way."""
-        found = []
-        for place in self.asked(name):
-            rule = self.rules[name][place]
-            if rule[0] == "pass":
-                for way, word, on_way in self.flat(rule[1]):
-                    found.append((((name, place),) + way, word, [rule] + on_way))
-            else:
-                found.append((((name, place),), rule[0], [rule]))
-        return found
-
-    def box(self, on_way):
-        """The box of the rules on a way: of each field the numbers for which all conditions for it hold."""
-        fields, groups, _ = self.plain
-        found = []
-        for field in fields:
-            conditions = [one for rule in on_way for one in rule[2] if one[0] == field[0]]
-            numbers = [number for number, value in enumerate(values_of(field))
-                       if all(condition_holds(field, groups, one, value) for one in conditions)]
-            found.append(numbers)
-        return found
-
-
-def numbers_in(one):
-    return [number for low, high in one for number in range(low, high + 1)]
 
 
 class Asked(unittest.TestCase):
