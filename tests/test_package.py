@@ -18,6 +18,13 @@ LISTED = {
     "showing.py": ["shown", "gate_shown"],
     "walking.py": ["asked", "answered", "flat"],
     "tables.py": ["Table", "made"],
+    "tablework.py": ["combined", "changed", "fixed", "leaves", "first_with", "many_with"],
+    "gates.py": ["word_table", "way_table", "pair_table", "differs", "many_differ", "counted", "woven"],
+    "needs.py": ["need_shown", "meeting", "lean"],
+    "reasons.py": ["unlike", "reason"],
+    "changes.py": ["change"],
+    "book.py": ["Book"],
+    "desk.py": ["answer", "play"],
 }
 
 
