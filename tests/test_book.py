@@ -414,6 +414,14 @@ class Since(Case):
         for thing in odd_things() + odd_lists():
             self.refused(NoGate, book.since, thing, 0, 0)
 
+    def test_no_gate_in_the_other_ahead_of_too_much(self):
+        book = Book(FIELDS + "gate a first\n" + FIVE + "\nlet\ngate b first")
+        book.put("gate much first\npass a\npass a")
+        book.take("much")
+        for one, other in ((1, 0), (0, 1), (1, 2), (2, 1)):
+            self.refused(NoGate, book.since, "much", one, other)
+        self.refused(TooMuch, book.since, "much", 1, 1)
+
     def test_too_much(self):
         book = Book(FIELDS + "gate a first\n" + FIVE + "\ngate b first\npass a\npass a")
         book.put("gate a first\n" + FIVE + "\nlet")

@@ -5,6 +5,7 @@ import unittest
 
 from gatewright import tablework
 from gatewright.errors import TooMuch
+from gatewright.sets import cut, set_of
 from gatewright.tables import Table, made
 from gatewright.tablework import changed, combined, first_with, fixed, leaves, many_with
 from tests.odd import Thorny, odd_things
@@ -34,22 +35,30 @@ def mosts_by_chance(chance, fields):
     return [chance.randint(0, (12, 6, 4, 2)[fields - 1]) for _ in range(fields)]
 
 
-def many_tests(many, mosts=None, at=0):
-    """A table of so many tests, 2 to 120: one of a field, the others of the next one."""
-    mosts = mosts or [many - 1, 7]
+def bit_set(most, bit):
+    """The set of the numbers to most that have a bit."""
+    return set_of(most, [(number, number) for number in range(most + 1) if number >> bit & 1])
+
+
+def many_tests(many, mosts):
+    """A table of so many tests, 2 to 120: one of the first field, the others of the last one."""
+    return bits_made(mosts, 0, many, lambda bit: ((bit, bit),), tuple)
+
+
+def bits_table(mosts, at):
+    """A table whose leaf is the number of a field."""
+    return bits_made(mosts, at, mosts[at] + 1, lambda bit: ((0, mosts[-1]),), lambda places: sum(1 << place for place in places))
+
+
+def bits_made(mosts, at, many, last, worker):
+    """A table of seven boxes, each of the numbers below so many of a field that have a bit, and of a set of the last field."""
     boxes = []
     for bit in range(7):
-        ones = tuple((number, number) for number in range(many) if number >> bit & 1)
-        stretches = []
-        for low, high in ones:
-            if stretches and stretches[-1][1] == low - 1:
-                stretches[-1] = (stretches[-1][0], high)
-            else:
-                stretches.append((low, high))
         sets = [((0, most),) for most in mosts]
-        sets[at], sets[-1] = tuple(stretches), ((bit, bit),)
+        sets[-1] = last(bit)
+        sets[at] = cut(bit_set(mosts[at], bit), ((0, many - 1),))
         boxes.append(tuple(sets))
-    return made(mosts, boxes, tuple)
+    return made(mosts, boxes, worker)
 
 
 class Combined(unittest.TestCase):
@@ -201,12 +210,31 @@ class Refused(unittest.TestCase):
             self.assertGreater(here * there, 4000)
             self.refused(one, other)
 
+    def counted_up(self, here, there):
+        """A table of 1 + here + here * there tests."""
+        mosts = [here - 1, there - 1, 1]
+        told = [bits_table(mosts, 0), bits_table(mosts, 1), made(mosts, [(((0, here - 1),), ((0, there - 1),), ((1, 1),))], len)]
+        both = combined(told[0], told[1], lambda one, other: (one, other))
+        return combined(both, told[2], lambda one, other: (one, other)), told[2]
+
+    def test_at_the_border(self):
+        for here, there in ((93, 42), (43, 92)):
+            great, single = self.counted_up(here, there)
+            self.assertEqual((len(great.tests()), len(single.tests())), (4000, 1))
+            self.taken(great, single, great.mosts())
+            self.taken(single, great, great.mosts())
+        for here, there in ((50, 79), (80, 49)):
+            great, single = self.counted_up(here, there)
+            self.assertEqual((len(great.tests()), len(single.tests())), (4001, 1))
+            self.refused(great, single)
+            self.refused(single, great)
+
     def test_of_one_with_very_many(self):
         mosts = [63, 63, 7]
         single = made(mosts, [(((0, 63),), ((0, 63),), ((0, 3),))], len)
         blank = made(mosts, [], lambda places: None)
         for here, many in ((62, 3968), (63, 4032)):
-            one, other = many_tests(here, mosts, 0), many_tests(63, mosts, 1)
+            one, other = many_tests(here, mosts), bits_made(mosts, 1, 63, lambda bit: ((bit, bit),), tuple)
             great = combined(one, other, lambda here, there: (here, there))
             self.assertEqual((len(great.tests()), len(single.tests())), (many, 1))
             if many > 4000:
