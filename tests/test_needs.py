@@ -166,6 +166,13 @@ class Lean(unittest.TestCase):
         self.assertEqual(lean(house_with("gate a first"), "a"), [])
         self.assertEqual(lean(house_with("gate a first\nlet many:!.."), "a"), [])
 
+    def test_eight_rules(self):
+        rules = "".join("\n" + word + " many:" + str(number) for number, word in enumerate(("let", "refuse") * 4))
+        for order in ("first", "refusals", "narrow"):
+            house = house_with("gate a " + order + rules)
+            self.assertEqual(lean(house, "a"), list(range(8)))
+            self.assertEqual([need_shown(house, "a", place) for place in range(8)], [("ann", place) for place in range(8)])
+
     def test_all_are_left(self):
         self.assertEqual(lean(house_with("gate a first\nlet who:ann\nrefuse who:!dan\nlet"), "a"), [0, 1, 2])
 
