@@ -202,3 +202,27 @@ class Looked:
     def many(self, holds):
         """Of how many askings something holds."""
         return sum(self.weights[asking] for asking in self.askings if holds(asking))
+
+    def lean(self, name):
+        """The places that are left of a gate's rules, when from the last one on each needless one is left out."""
+        words, out = self.words(name), []
+        places = range(len(self.rules[name]))
+        for place in reversed(places):
+            if self.without(name, out + [place]).words(name) == words:
+                out.append(place)
+        return [place for place in places if place not in out]
+
+    def unlike(self, words, asking, names):
+        """The least asking with the same values in some fields and another one of the words, None without one."""
+        places = [place for place, field in enumerate(self.plain[0]) if field[0] in names]
+        return self.first(lambda one: all(one[at] == asking[at] for at in places) and words[one] != words[asking])
+
+    def reason(self, words, asking):
+        """The names of the fields that are left, when from the last one on each that isn't wanted is left out."""
+        names = [field[0] for field in self.plain[0]]
+        left = list(names)
+        for name in reversed(names):
+            rest = [one for one in left if one != name]
+            if self.unlike(words, asking, rest) is None:
+                left = rest
+        return left

@@ -12,8 +12,6 @@ from gatewright.walking import flat
 from tests.chances import KINDS, gate_by_chance, great_house_by_chance, house_by_chance
 from tests.looks import Looked
 from tests.odd import odd_lists, odd_numbers, odd_things
-from tests.test_needs import lean_by_look
-from tests.test_reasons import Look
 
 HIGH = 10 ** 12
 FIELDS = """field who names ann bob cy
@@ -399,14 +397,14 @@ class ByChance(Case):
                 told = values(plain, asking)
                 word, way = look.answered(name, asking)
                 want = "none" if word is None else word + " by " + " ".join(f"{gate} {place}" for gate, place in way)
-                reason = " ".join(Look(look, name).reason(asking)) or "nothing"
+                reason = " ".join(look.reason(words[name], asking)) or "nothing"
                 self.told(book, [(f"ask {name} {told}", want),
                                  (f"reason {name} {told}", "refused much" if self.much(house, name) else reason)])
             if self.much(house, name):
                 self.told(book, [(f"count {name}", "refused much"), (f"lean {name}", "refused much")])
             else:
                 many = [look.many(lambda one: words[name][one] == word) for word in ("let", "refuse", None)]
-                places = " ".join(str(place) for place in lean_by_look(look, name)) or "nothing"
+                places = " ".join(str(place) for place in look.lean(name)) or "nothing"
                 self.told(book, [(f"count {name}", "let {} refuse {} none {}".format(*many)), (f"lean {name}", places)])
             for other in house.gates():
                 first = look.first(lambda one: words[name][one] != words[other][one])

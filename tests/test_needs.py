@@ -24,15 +24,6 @@ def house_with(text):
     return read(FIELDS + text)
 
 
-def lean_by_look(look, name):
-    words, out = look.words(name), []
-    many = len(look.rules[name])
-    for place in range(many - 1, -1, -1):
-        if look.without(name, out + [place]).words(name) == words:
-            out.append(place)
-    return [place for place in range(many) if place not in out]
-
-
 class Looks(unittest.TestCase):
     """Each rule of each gate against a look at every asking."""
 
@@ -55,7 +46,7 @@ class Looks(unittest.TestCase):
                 self.assertEqual(meeting(house, name, place),
                                  look.first(lambda one: ways[one] is not None and ways[one][0] == (name, place)))
             told = lean(house, name)
-            self.assertEqual(told, lean_by_look(look, name))
+            self.assertEqual(told, look.lean(name))
             self.assertIs(type(told), list)
             self.assertEqual(look.without(name, [at for at in range(many) if at not in told]).words(name), words)
         self.assertEqual(house.plain(), look.plain)

@@ -25,27 +25,6 @@ def house_with(text):
     return read(FIELDS + text)
 
 
-class Look:
-    """What the document says of fields that are enough, by a look at every asking."""
-
-    def __init__(self, look, name):
-        self.look = look
-        self.names = [field[0] for field in look.plain[0]]
-        self.words = look.words(name)
-
-    def unlike(self, asking, names):
-        places = [place for place, name in enumerate(self.names) if name in names]
-        return self.look.first(lambda one: all(one[at] == asking[at] for at in places) and self.words[one] != self.words[asking])
-
-    def reason(self, asking):
-        left = list(self.names)
-        for name in reversed(self.names):
-            rest = [one for one in left if one != name]
-            if self.unlike(asking, rest) is None:
-                left = rest
-        return left
-
-
 class ByLook(unittest.TestCase):
     def looked_through(self, chance, house, look, many):
         for name in house.gates():
@@ -56,13 +35,14 @@ class ByLook(unittest.TestCase):
                 self.assertRaises(TooMuch, reason, house, name, askings[0])
                 self.assertRaises(TooMuch, unlike, house, name, askings[0], [])
                 continue
-            wanted = Look(look, name)
+            words = look.words(name)
+            fields = [field.called() for field in house.fields()]
             for asking in askings:
-                for count in range(len(wanted.names) + 1):
-                    for some in itertools.combinations(wanted.names, count):
+                for count in range(len(fields) + 1):
+                    for some in itertools.combinations(fields, count):
                         names = chance.sample(some, count)
-                        self.assertEqual(unlike(house, name, asking, names), wanted.unlike(asking, names))
-                self.assertEqual(reason(house, name, asking), wanted.reason(asking))
+                        self.assertEqual(unlike(house, name, asking, names), look.unlike(words, asking, names))
+                self.assertEqual(reason(house, name, asking), look.reason(words, asking))
         self.assertEqual(house.plain(), look.plain)
 
     def test_small_houses(self):
